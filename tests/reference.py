@@ -1,6 +1,7 @@
 """A second reading of the document, in fractions and without the package, to test against."""
 
 from fractions import Fraction
+from functools import lru_cache
 from itertools import combinations, permutations
 
 ALL_AXIOMS = ("alike", "ends", "equal", "flat", "idle", "last", "own", "plain", "turned", "whole", "zero")
@@ -86,59 +87,92 @@ def breaks(rule, axiom, game):
     raise AssertionError(axiom)
 
 
-def keeps(rule, axiom):
-    """Equations between the ratios, worked out by hand from each axiom."""
-    many = len(rule)
-    rows = as_rows(rule)
+def ratios_are_0(many, kept):
+    """Equations for the ratios of all groups but that of all and those kept for a person."""
+    found = []
+    for person in range(many):
+        for group in order_of(many)[:-1]:
+            if group not in kept(person):
+                found.append(({(person, group): 1}, 0))
+    return found
+
+
+def alike_equations(many):
+    # A ratio tells only the size of the group, and whether the person is in it.
+    found, kinds = [], {}
+    for person in range(many):
+        for group in order_of(many):
+            first = kinds.setdefault((person in group, len(group)), (person, group))
+            if first != (person, group):
+                found.append(({first: 1, (person, group): -1}, 0))
+    return found
+
+
+def equal_equations(many):
+    found = []
+    for one, two in combinations(range(many), 2):
+        for rest in subsets(set(range(many)) - {one, two}):
+            if rest:
+                found.append(({(one, rest): 1, (two, rest): -1}, 0))
+            found.append(({(one, rest | {one, two}): 1, (two, rest | {one, two}): -1}, 0))
+            either = (rest | {one}, rest | {two})
+            sums = {(one, group): 1 for group in either} | {(two, group): -1 for group in either}
+            found.append((sums, 0))
+    return found
+
+
+def idle_equations(many):
+    found = []
+    for person in range(many):
+        for rest in subsets(set(range(many)) - {person})[1:]:
+            found.append(({(person, rest): 1, (person, rest | {person}): 1}, 0))
+    return found
+
+
+def total_of(many, person, other):
+    """The ratios of a person for all groups with another one."""
+    return {(person, group): 1 for group in order_of(many) if other in group}
+
+
+def equations(many, axiom):
+    """Equations between the ratios, worked out by hand from each axiom.
+
+    Each is a pair of the integers by which ratios are multiplied, and of what the sum has to be.
+    """
     everyone, crowd = frozenset(range(many)), range(many)
-    proper = [group for group in order_of(many) if group != everyone]
+    proper = order_of(many)[:-1]
     if axiom == "alike":
-        # A ratio tells only the size of the group, and whether the person is in it.
-        kinds = {}
-        for person in crowd:
-            for group, ratio in rows[person].items():
-                kinds.setdefault((person in group, len(group)), set()).add(ratio)
-        return all(len(ratios) == 1 for ratios in kinds.values())
+        return alike_equations(many)
     if axiom == "ends":
-        return all(rows[p][group] == 0 for p in crowd for group in proper if group != {p})
+        return ratios_are_0(many, lambda person: [{person}])
     if axiom == "flat":
-        return all(rows[p][group] == 0 for p in crowd for group in proper)
+        return ratios_are_0(many, lambda person: [])
     if axiom == "last":
-        return all(rows[p][group] == 0 for p in crowd for group in proper if group != everyone - {p})
+        return ratios_are_0(many, lambda person: [everyone - {person}])
     if axiom == "equal":
-        for one, two in combinations(crowd, 2):
-            first, second = rows[one], rows[two]
-            for rest in subsets(everyone - {one, two}):
-                if rest and first[rest] != second[rest]:
-                    return False
-                if first[rest | {one, two}] != second[rest | {one, two}]:
-                    return False
-                if first[rest | {one}] + first[rest | {two}] != second[rest | {one}] + second[rest | {two}]:
-                    return False
-        return True
-    if axiom in ("idle", "own"):
-        for person in crowd:
-            for rest in subsets(everyone - {person})[1:]:
-                if rows[person][rest] + rows[person][rest | {person}] != 0:
-                    return False
-            alone = sum(ratio for group, ratio in rows[person].items() if person in group)
-            if axiom == "own" and alone != 1:
-                return False
-        return True
+        return equal_equations(many)
+    if axiom == "idle":
+        return idle_equations(many)
+    if axiom == "own":
+        return idle_equations(many) + [(total_of(many, person, person), 1) for person in crowd]
     if axiom == "plain":
-        for person in crowd:
-            for other in crowd:
-                total = sum(ratio for group, ratio in rows[person].items() if other in group)
-                if total != int(person == other):
-                    return False
-        return True
+        return [(total_of(many, one, two), int(one == two)) for one in crowd for two in crowd]
     if axiom == "turned":
-        return all(rows[p][group] == -rows[p][everyone - group] for p in crowd for group in proper)
+        # A group and its rest give the same equation, and no group is its own rest.
+        return [({(p, group): 1, (p, everyone - group): 1}, 0) for p in crowd for group in proper]
     if axiom == "whole":
-        return all(sum(row[group] for row in rows) == int(group == everyone) for group in order_of(many))
+        return [({(p, group): 1 for p in crowd}, int(group == everyone)) for group in order_of(many)]
     if axiom == "zero":
-        return all(rows[p][group] == 0 for p in crowd for group in proper if p not in group)
+        return ratios_are_0(many, lambda person: [group for group in proper if person in group])
     raise AssertionError(axiom)
+
+
+def keeps(rule, axiom):
+    rows = as_rows(rule)
+    for factors, target in equations(len(rule), axiom):
+        if sum(factor * rows[person][group] for (person, group), factor in factors.items()) != target:
+            return False
+    return True
 
 
 def numbers(seed, low, high, count):
@@ -171,3 +205,68 @@ def some_rule(seed, many, limit=3):
     bottoms = numbers(seed + 1, 1, limit, many * items)
     pairs = [pair(Fraction(top, bottom)) for top, bottom in zip(tops, bottoms)]
     return tuple(tuple(pairs[person * items:(person + 1) * items]) for person in range(many))
+
+
+# Ranks are counted in the remainders by this prime: none is above the true rank.
+PRIME = 2 ** 61 - 1
+
+
+def dense(many, equation):
+    """An equation as a list of integers, what the sum has to be last."""
+    factors, target = equation
+    places = [(person, group) for person in range(many) for group in order_of(many)]
+    return [factors.get(place, 0) for place in places] + [target]
+
+
+def with_row(basis, row):
+    """A basis (from the first place of a row that is not 0 to the row) with one more row."""
+    row = [value % PRIME for value in row]
+    for at in range(len(row)):
+        if not row[at]:
+            continue
+        if at not in basis:
+            inverse = pow(row[at], -1, PRIME)
+            return basis | {at: [value * inverse % PRIME for value in row]}
+        row = [(value - row[at] * away) % PRIME for value, away in zip(row, basis[at])]
+    return basis
+
+
+def rank(rows):
+    basis = {}
+    for row in rows:
+        basis = with_row(basis, row)
+    return len(basis)
+
+
+def free_count(basis, unknowns):
+    """How many unknowns the equations of a basis leave free, None if they contradict each other."""
+    return None if unknowns in basis else unknowns - len(basis)
+
+
+@lru_cache
+def all_freedoms(many):
+    """The freedom of each set of axioms, by the closed equations alone."""
+    unknowns = many * (2 ** many - 1)
+    rows = {axiom: [dense(many, each) for each in equations(many, axiom)] for axiom in ALL_AXIOMS}
+    found = {}
+
+    def go(names, basis, rest):
+        found[names] = free_count(basis, unknowns)
+        for at, axiom in enumerate(rest):
+            more = basis
+            for row in rows[axiom]:
+                more = with_row(more, row)
+            go(names + (axiom,), more, rest[at + 1:])
+
+    go((), {}, ALL_AXIOMS)
+    return found
+
+
+def least(freedoms, is_hit):
+    """The least sets of those that are hit, by the definition, in the order of the document."""
+    found = []
+    for names in sorted(freedoms, key=lambda names: (len(names), names)):
+        parts = [part for size in range(len(names)) for part in combinations(names, size)]
+        if is_hit(freedoms[names]) and not any(is_hit(freedoms[part]) for part in parts):
+            found.append(names)
+    return tuple(found)

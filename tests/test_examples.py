@@ -1,6 +1,8 @@
-"""The examples of the document's interface, as they are printed there."""
+"""The examples of the document's interface, as they are printed there, and those of README.md."""
 
+import doctest
 import unittest
+from pathlib import Path
 
 GAMES = """
 >>> from worthshares.games import added, dividends, groups, people, turned, worth
@@ -37,6 +39,47 @@ AXIOMS = """
 raises BadAxiom
 """
 
+SPACES = """
+>>> from worthshares.spaces import can_hold, forces, freedom, only_rule, some_rule, steps
+>>> [freedom(3, ()), freedom(3, ("whole",)), freedom(3, ("alike",)), freedom(3, ("equal", "idle", "whole")), freedom(3, ("own", "whole", "zero"))]
+[21, 14, 5, 0, None]
+>>> [only_rule(2, ("equal", "idle", "whole")), only_rule(2, ("ends", "own"))]
+[(((1, 2), (-1, 2), (1, 2)), ((-1, 2), (1, 2), (1, 2))), (((1, 1), (0, 1), (0, 1)), ((0, 1), (1, 1), (0, 1)))]
+>>> [forces(2, ("alike", "plain", "whole")), forces(3, ("alike", "plain", "whole")), can_hold(2, ("flat", "own")), some_rule(2, ("flat", "own")), len(steps(2, ("alike", "whole")))]
+[True, False, False, None, 1]
+>>> only_rule(3, ("whole",))
+raises NotOne
+"""
+
+MAPS = """
+>>> from worthshares.maps import clashes, forcings, least_clashes, least_forcing
+>>> [len(least_clashes(3)), [len(least_forcing(many)) for many in (2, 3, 4)], least_clashes(2)[:2]]
+[22, [29, 26, 24], (('flat', 'own'), ('flat', 'plain'))]
+>>> [clashes(3, ("equal", "idle", "whole", "zero")), forcings(3, ("equal", "idle", "whole", "zero")), forcings(4, ("alike", "plain", "turned", "whole"))]
+[(('idle', 'whole', 'zero'),), (('equal', 'idle', 'whole'), ('equal', 'whole', 'zero')), ()]
+>>> clashes(5, ())
+raises BadMany
+"""
+
+TEXTS = """
+>>> from worthshares.texts import read_game, write_game
+>>> [write_game((0, -5, 12)), read_game("1 2 3")]
+['0 -5 12', (1, 2, 3)]
+>>> read_game("1 02 3")
+raises InvalidText
+"""
+
+DESKS = """
+>>> from worthshares.desks import Desk
+>>> desk = Desk(3)
+>>> [desk.run(line) for line in ("0+2 1", "1+2 1", "0+1+2 1", "shapley", "0+2", "even")]
+[None, None, None, '1/6 1/6 2/3', '1', '1/3 1/3 1/3']
+>>> [desk.undo(), desk.game]
+[None, (0, 0, 0, 0, 1, 1, 0)]
+>>> desk.run("2+0 1")
+raises InvalidText
+"""
+
 
 def outcome(line, known):
     """What a printed line gives: its result as text, or the name of its error."""
@@ -68,6 +111,25 @@ class Examples(unittest.TestCase):
 
     def test_axioms(self):
         self.check(AXIOMS, 3)
+
+    def test_spaces(self):
+        self.check(SPACES, 4)
+
+    def test_maps(self):
+        self.check(MAPS, 3)
+
+    def test_texts(self):
+        self.check(TEXTS, 2)
+
+    def test_desks(self):
+        self.check(DESKS, 3)
+
+    def test_readme(self):
+        text = (Path(__file__).parent.parent / "README.md").read_text(encoding="ascii")
+        example = doctest.DocTestParser().get_doctest(text.split("```")[1], {}, "README.md", None, 0)
+        results = doctest.DocTestRunner().run(example)
+        self.assertEqual(results.failed, 0)
+        self.assertGreater(results.attempted, 10)
 
 
 if __name__ == "__main__":

@@ -7,6 +7,7 @@ from importlib import import_module
 from pathlib import Path
 
 import worthshares
+from worthshares.desks import Desk
 
 FUNCTIONS = {
     "games": {
@@ -18,6 +19,15 @@ FUNCTIONS = {
         "axioms": [], "profile": ["rule"], "breaks": ["rule", "axiom", "game"], "keeps": ["rule", "axiom"],
         "breaking_game": ["rule", "axiom"],
     },
+    "spaces": {
+        "freedom": ["many", "wanted"], "can_hold": ["many", "wanted"], "forces": ["many", "wanted"],
+        "some_rule": ["many", "wanted"], "only_rule": ["many", "wanted"], "steps": ["many", "wanted"],
+    },
+    "maps": {
+        "least_clashes": ["many"], "least_forcing": ["many"], "clashes": ["many", "wanted"],
+        "forcings": ["many", "wanted"],
+    },
+    "texts": {"write_game": ["game"], "read_game": ["text"]},
 }
 FOLDER = Path(worthshares.__file__).parent
 
@@ -29,6 +39,14 @@ class Interface(unittest.TestCase):
                 function = getattr(import_module("worthshares." + module), name)
                 self.assertEqual(function.__module__, "worthshares." + module, name)
                 self.assertEqual(list(inspect.signature(function).parameters), parameters, name)
+
+    def test_desk(self):
+        own = vars(Desk)
+        self.assertEqual(Desk.__module__, "worthshares.desks")
+        self.assertEqual(list(inspect.signature(Desk).parameters), ["many"])
+        self.assertEqual(list(inspect.signature(own["run"]).parameters), ["self", "line"])
+        self.assertEqual(list(inspect.signature(own["undo"]).parameters), ["self"])
+        self.assertIsInstance(own["game"], property)
 
 
 class Language(unittest.TestCase):

@@ -4,6 +4,20 @@ from worthshares.errors import BadGame, BadRule
 
 NOT_MANY = (1, 5, 0, -2, 100, True, False, None, "2", "", (2,), [3], {}, {2: 2}, ())
 
+NOT_TEXT = (None, True, False, 0, 123, (), ("0", "0", "0"), (0, 0, 0), [], ["0 0 0"], {}, {"0 0 0": 1})
+# None of these is an integer from -1000 to 1000 without needless signs.
+NOT_WORTHS = (
+    "", "-", "--1", "+1", "+0", "-0", "00", "01", "-01", "0001", "1001", "-1001", "01000", "10000", "99999", "-10000",
+    "9" * 5000, "0" * 5000, "1_0", "1.0", "1.", ".5", "1e2", "0x1", "x", "one", "None", "True", "1-", "1+1", "1/2",
+    "\u0661", "1\u0662", "\u00b2", "\uff11", "\u2212" + "1", "1,", "'1'", "(1)", "1\n", "\t1", "\u00a01", "1\x00",
+)
+NOT_WANTED = (
+    None, True, 0, 3, "", "flat", [], ["flat"], {}, {"flat": 1}, ("fair",), ("",), ("Flat",), ("flat ",),
+    ("own", "flat"), ("flat", "flat"), ("alike", "own", "flat"), ("alike", "alike", "own"), ("alike", "fair"),
+    ("flat", None), (None,), (0,), (True,), (("flat",),), (["flat"],), ({},), ("flat", 3), (3, "flat"), ("alike", []),
+    ("alike", "ends", "equal", "flat", "idle", "last", "own", "plain", "turned", "whole", "zero", "zero"),
+)
+
 
 def expect(case, kind, call, *arguments):
     """The error that the call raises has this very class, and it is handed on."""

@@ -8,7 +8,7 @@ breaks an axiom at a game if it does not meet one of the demands that the axiom 
 from itertools import combinations, permutations
 
 from worthshares.checks import check_alike, check_game, check_rule, head_count
-from worthshares.errors import BadAxiom
+from worthshares.errors import BadAxiom, BadAxioms
 from worthshares.games import (
     added_worths, all_groups, groups_among, joined, others, turned_worths, worth_table,
 )
@@ -228,6 +228,13 @@ def first_break(rule, axiom):
 def check_axiom(axiom):
     if axiom not in axioms():
         raise BadAxiom("no axiom has this name")
+
+
+def check_axioms(wanted):
+    if not isinstance(wanted, tuple) or not all([axiom in axioms() for axiom in wanted]):
+        raise BadAxioms("wanted axioms are a tuple of names")
+    if not all([low < high for low, high in zip(wanted, wanted[1:])]):
+        raise BadAxioms("wanted axioms are ascending and different")
 
 
 def axioms():

@@ -2,7 +2,7 @@
 
 from math import gcd
 
-from worthshares.errors import BadGame, BadGroup, BadMany, BadPerson, BadRule, NotAlike
+from worthshares.errors import BadGame, BadGroup, BadMany, BadPerson, BadRule, NotAlike, NotText
 
 FEWEST_PEOPLE = 2
 MOST_PEOPLE = 4
@@ -80,3 +80,8 @@ def check_rule(rule):
 def check_alike(rule, game):
     if len(rule) != head_count(game):
         raise NotAlike("the rule and the game are for different numbers of people")
+
+
+def check_text(value):
+    if not isinstance(value, str):
+        raise NotText("this is not a string")
